@@ -2,6 +2,9 @@
 
 import unittest
 
+from soundyard.errors import Shut, Unmet
+from soundyard.kinds import Many, Single
+
 HUGE = 10 ** 29 + 7
 # Python refuses to write an integer of this length in digits, so no text may contain it.
 LONG = 10 ** 6000
@@ -20,6 +23,42 @@ class Case(unittest.TestCase):
             action(*given)
         self.assertIs(type(caught.exception), type(expected))
         self.assertEqual(vars(caught.exception), vars(expected))
+        return caught.exception
+
+    def unmet(self, need, action, *given):
+        """Check that the action raises the error of this unmet need, with the shut door as its cause."""
+        error = self.refused(Unmet(*need), action, *given)
+        self.assertIs(type(error.__cause__), Shut)
+        self.assertEqual(vars(error.__cause__), {"door": need[2]})
+
+
+def made(shape, name, standings, steps=(), doors=()):
+    """Return a kind; `doors` is a list of tuples (standing, needs, gives)."""
+    kind = shape(name, standings)
+    for before, after in steps:
+        kind.allow(before, after)
+    for standing, needs, gives in doors:
+        kind[standing] = (needs, gives)
+    return kind
+
+
+def single(name, standings, steps=(), doors=()):
+    return made(Single, name, standings, steps, doors)
+
+
+def many(name, standings, steps=(), doors=()):
+    return made(Many, name, standings, steps, doors)
+
+
+def example_kinds():
+    """Return the kinds of point 19 of the document."""
+    up = [("idle", "up")]
+    return [
+        single("base", ["old", "new"], [("old", "new")], [("old", [], ["d1"]), ("new", [], ["d2"])]),
+        many("app", ["idle", "up"], up, [("up", ["d1"], ["page"])]),
+        many("next", ["idle", "up"], up, [("up", ["d2"], ["page"])]),
+        single("user", ["on"], [], [("on", ["page"], [])]),
+    ]
 
 
 def shown(example):

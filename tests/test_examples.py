@@ -1,4 +1,4 @@
-"""The examples of the document that speak of kinds and lots, as they stand there, and those of README.md."""
+"""The examples of the document that speak of what has landed, as they stand there, and those of README.md."""
 
 import doctest
 import pathlib
@@ -46,6 +46,25 @@ raises Lacking(kind='app', standing='up')
 >>> one = Hold([("app", "up")])
 >>> list(one | Hold([("app", "idle"), ("app", "up")]))
 [('app', 'up'), ('app', 'idle')]
+""",
+    """
+>>> from soundyard.kinds import Many, Single
+>>> from soundyard.lots import Hold
+>>> from soundyard.sites import Site
+>>> site = Site([Single("base", ["old", "new"]), Many("app", ["idle", "up"])])
+>>> site.present(("new",), Hold([("app", "up")]))
+(('base', 'new'), ('app', 'up'))
+""",
+    """
+>>> from soundyard.kinds import Many, Single
+>>> from soundyard.lots import Lot
+>>> from soundyard.sites import Site
+>>> from soundyard.yards import Yard
+>>> site = Site([Single("base", ["old", "new"]), Many("app", ["idle", "up"])])
+>>> yard = Yard(site, ("old",), Lot())
+>>> yard.put("app", 12000)
+>>> yard.table()
+['base         old                       one', 'app          idle                   12,000']
 """,
 ]
 

@@ -39,6 +39,23 @@ INTERFACE = {
         "Lot": ["__init__", "one", "__iter__", "__len__", "__contains__", "__getitem__", "total", "spots", "__le__",
                 "__eq__", "__add__", "__sub__", "__mul__", "__rmul__", "__iadd__", "__isub__"],
     },
+    "sites.py": {
+        "Site": ["__init__", "singles", "spots", "first_places", "present", "opened", "giver", "unmet", "check",
+                 "offered"],
+    },
+    "yards.py": {
+        "Yard": ["__init__", "__getitem__", "__setitem__", "__contains__", "__iter__", "lot", "placed", "put", "step",
+                 "take", "leave", "play", "trial", "copy", "table"],
+        "Trial": ["__enter__", "__exit__"],
+    },
+}
+# The functions of the interface that have landed, with their arguments.
+FUNCTIONS = {
+    "greatest.py": {
+        "grown": ["site", "places", "hold"],
+        "kept": ["site", "places", "after", "hold"],
+        "crossed": ["site", "places", "after", "hold"],
+    },
 }
 
 
@@ -85,6 +102,13 @@ class InterfaceTest(unittest.TestCase):
                 self.assertIn(shape, found)
                 own = [node.name for node in found[shape].body if isinstance(node, ast.FunctionDef)]
                 self.assertEqual([method for method in methods if method not in own], [], shape)
+
+    def test_each_function_is_defined_where_the_interface_lists_it(self):
+        for name, functions in FUNCTIONS.items():
+            found = {node.name: node for node in tree(PACKAGE / name).body if isinstance(node, ast.FunctionDef)}
+            for function, given in functions.items():
+                self.assertIn(function, found)
+                self.assertEqual([part.arg for part in found[function].args.args], given, function)
 
 
 class FormTest(unittest.TestCase):
