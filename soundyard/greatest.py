@@ -12,13 +12,17 @@ def met(site, spot, doors):
     return all([door in doors for door in site.needs_at(kind, standing)])
 
 
+def sources(site, hold, spot):
+    """Return the list of the standings in the hold from which a step leads to the spot."""
+    kind, standing = spot
+    return [before for before in site.many_standings(kind)
+            if (kind, before) in hold and site.leads(kind, before, standing)]
+
+
 def in_reach(site, hold, spot):
     """Tell whether a new copy begins at the spot, or a step leads to it from a spot in the hold."""
     kind, standing = spot
-    standings = site.many_standings(kind)
-    if standing == standings[0]:
-        return True
-    return any([site.leads(kind, before, standing) for before in standings if (kind, before) in hold])
+    return standing == site.many_standings(kind)[0] or len(sources(site, hold, spot)) > 0
 
 
 def addable(site, places, hold):

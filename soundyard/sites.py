@@ -5,6 +5,11 @@ from soundyard.kinds import Many, Single, distinct
 from soundyard.lots import Hold
 
 
+def standings_of(kinds):
+    """Return a dict that gives the name of each kind the tuple of its standings."""
+    return {kind.name: kind.standings() for kind in kinds}
+
+
 class Site:
     """A list of kinds. It never changes."""
 
@@ -14,19 +19,22 @@ class Site:
             if kind.name in self._kinds:
                 raise Repeated(kind.name)
             self._kinds[kind.name] = kind.twin()
+        # A site never changes, so what is asked of it most often is found out once.
+        self._singles = standings_of([kind for kind in self._kinds.values() if isinstance(kind, Single)])
+        self._manys = standings_of([kind for kind in self._kinds.values() if isinstance(kind, Many)])
+        self._order = tuple([(name, standing) for name, kind in self._kinds.items() for standing in kind.standings()])
 
     def singles(self):
         """Return the tuple of the names of the single kinds, in order."""
-        return tuple([name for name, kind in self._kinds.items() if isinstance(kind, Single)])
+        return tuple(self._singles)
 
     def spots(self):
         """Return the hold of all spots."""
-        return Hold([(kind, standing) for kind, standing in self.all_standings()
-                     if isinstance(self._kinds[kind], Many)])
+        return Hold([(kind, standing) for kind, standings in self._manys.items() for standing in standings])
 
     def first_places(self):
         """Return the places in which every single kind is at its first standing."""
-        return tuple([kind.standings()[0] for kind in self._kinds.values() if isinstance(kind, Single)])
+        return tuple([standings[0] for standings in self._singles.values()])
 
     def present(self, places, hold):
         """Return the tuple of the present standings, each a tuple (kind, standing)."""
@@ -64,15 +72,15 @@ class Site:
 
     def offered(self, *offers):
         """Return a new site in which the offers, tuples (kind, standing, door), are taken in this order."""
-        made = Site(list(self._kinds.values()))
+        kinds = {name: kind.twin() for name, kind in self._kinds.items()}
         for name, standing, door in offers:
-            if name not in made._kinds:
+            if name not in kinds:
                 raise Unknown(name)
-            kind = made._kinds[name]
+            kind = kinds[name]
             needs, gives = kind[standing]
             # A kind keeps only the first occurrence of a door, so one that is given already is not added.
             kind[standing] = (needs, [*gives, door])
-        return made
+        return Site(list(kinds.values()))
 
     def check_names(self, places, hold):
         """Raise `Unknown` for the first name in the places, then in the hold, that does not fit the site."""
@@ -85,21 +93,19 @@ class Site:
 
     def all_standings(self):
         """Return the tuple of all tuples (kind, standing), for single and many kinds, in order."""
-        return tuple([(name, standing) for name, kind in self._kinds.items() for standing in kind.standings()])
+        return self._order
 
     def single_standings(self, name):
         """Return the tuple of the standings of a single kind."""
-        kind = self._kinds.get(name)
-        if not isinstance(kind, Single):
+        if name not in self._singles:
             raise Unknown(name)
-        return kind.standings()
+        return self._singles[name]
 
     def many_standings(self, name):
         """Return the tuple of the standings of a many kind."""
-        kind = self._kinds.get(name)
-        if not isinstance(kind, Many):
+        if name not in self._manys:
             raise Unknown(name)
-        return kind.standings()
+        return self._manys[name]
 
     def needs_at(self, kind, standing):
         """Return the tuple of the doors that the kind needs at the standing."""

@@ -4,6 +4,7 @@ import unittest
 
 from soundyard.errors import Shut, Unmet
 from soundyard.kinds import Many, Single
+from soundyard.sites import Site
 
 HUGE = 10 ** 29 + 7
 # Python refuses to write an integer of this length in digits, so no text may contain it.
@@ -59,6 +60,17 @@ def example_kinds():
         many("next", ["idle", "up"], up, [("up", ["d2"], ["page"])]),
         single("user", ["on"], [], [("on", ["page"], [])]),
     ]
+
+
+def rooms():
+    """Return a site: copies of `one` come in at left only, those of `two` at right; those that are on stay at hall."""
+    ways = [("hall", "left"), ("left", "hall"), ("hall", "right"), ("right", "hall")]
+    gives = [("hall", [], ["a", "b"]), ("left", [], ["a", "ain"]), ("right", [], ["b", "bin"])]
+    return Site([
+        single("base", ["hall", "left", "right"], ways, gives),
+        many("one", ["in", "on"], [("in", "on")], [("in", ["ain"], []), ("on", ["a"], [])]),
+        many("two", ["in", "on"], [("in", "on")], [("in", ["bin"], []), ("on", ["b"], [])]),
+    ])
 
 
 def shown(example):

@@ -1,4 +1,4 @@
-"""The examples of the document that speak of what has landed, as they stand there, and those of README.md."""
+"""The examples of the document, as they stand there, and those of README.md."""
 
 import doctest
 import pathlib
@@ -65,6 +65,28 @@ raises Lacking(kind='app', standing='up')
 >>> yard.put("app", 12000)
 >>> yard.table()
 ['base         old                       one', 'app          idle                   12,000']
+""",
+    """
+>>> from soundyard.kinds import Single
+>>> from soundyard.lots import Hold
+>>> from soundyard.sites import Site
+>>> from soundyard.webs import Web
+>>> base = Single("base", ["old", "mid", "new"])
+>>> base.allow("old", "mid")
+>>> base.allow("mid", "new")
+>>> web = Web(Site([base]))
+>>> web.fewest(("new",), Hold())
+2
+""",
+    """
+>>> from soundyard.kinds import Single
+>>> from soundyard.sites import Site
+>>> from soundyard.webs import Web
+>>> base = Single("base", ["old", "mid", "new"])
+>>> base.allow("old", "new")
+>>> web = Web(Site([base]))
+>>> web.never()
+[('base', 'mid')]
 """,
 ]
 

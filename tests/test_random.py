@@ -14,9 +14,9 @@ from tests.helpers import Case
 class Setting:
     """A random site, twice: as the program's and as the plain one."""
 
-    def __init__(self, seed):
+    def __init__(self, seed, rows=reckoning.random_rows):
         self.random = random.Random(seed)
-        self.rows = reckoning.random_rows(self.random)
+        self.rows = rows(self.random)
         self.site = reckoning.site_of(self.rows)
         self.spots = reckoning.spots_of(self.rows)
 
